@@ -1,0 +1,65 @@
+// Package periodic makes curves from functions of ticks, for the layers whose results are described by their values.
+package periodic
+
+import (
+	"netcalculus/api"
+	"netcalculus/curve"
+)
+
+// Values gives the value of f, which is valid, at each tick from 0 on. Ticks may be greater than MaxTime, as long as the value is less than Infinite.
+func Values(f api.Curve) func(t int) int {
+	number := len(f.Values)
+	return func(t int) int {
+		if t < number {
+			return f.Values[t]
+		}
+		// An infinite curve has the Increment 0, so that its value stays Infinite.
+		periods := (t-number)/f.Period + 1
+		return f.Values[t-periods*f.Period] + periods*f.Increment
+	}
+}
+
+// Curve returns the normal form of the curve with the values that value gives, or ErrLimit if this form is not valid. The values do not decrease; from start on they grow by the same in each period, or are all Infinite. They are asked for up to two periods behind start.
+func Curve(start, period int, value func(t int) int) (api.Curve, api.Errno) {
+	period = leastPeriod(start, period, value)
+	increment := value(start+period) - value(start)
+	for start > 0 && value(start-1+period)-value(start-1) == increment {
+		start--
+	}
+	// Before anything is listed: start may be far behind the limits.
+	if start+period > api.MaxValues {
+		return api.Curve{}, api.ErrLimit
+	}
+	f := api.Curve{Values: make([]int, start+period), Period: period, Increment: increment}
+	for t := range f.Values {
+		f.Values[t] = value(t)
+	}
+	if !curve.Valid(f) {
+		return api.Curve{}, api.ErrLimit
+	}
+	return f, api.OK
+}
+
+// Common returns the least common multiple of two positive numbers.
+func Common(a, b int) int {
+	divisor, rest := a, b
+	for rest != 0 {
+		divisor, rest = rest, divisor%rest
+	}
+	return a / divisor * b
+}
+
+// leastPeriod returns the least number of ticks after which the values have always grown by the same, if from start on they have after known ticks. One known period stands for all ticks behind it.
+func leastPeriod(start, known int, value func(t int) int) int {
+periods:
+	for p := 1; p < known; p++ {
+		growth := value(start+p) - value(start)
+		for t := start + 1; t < start+known; t++ {
+			if value(t+p)-value(t) != growth {
+				continue periods
+			}
+		}
+		return p
+	}
+	return known
+}
