@@ -40,6 +40,32 @@ func Curve(start, period int, value func(t int) int) (api.Curve, api.Errno) {
 	return f, api.OK
 }
 
+// Settled returns the normal form of the curve with the values that value gives, as Curve does. In the long run the values grow by growth in each period, as soon as none of the curves that they are taken from overtakes another one any more. If one is still to be overtaken at start, which is at least MaxValues, all values up to there would have to be listed. As the other one comes nearer with each period, the first period behind start shows this.
+func Settled(start, period, growth int, value func(t int) int) (api.Curve, api.Errno) {
+	for t := start; t < start+period; t++ {
+		if value(t+period) != Plus(value(t), growth) {
+			return api.Curve{}, api.ErrLimit
+		}
+	}
+	return Curve(start, period, value)
+}
+
+// Growth returns by how much f, which is in normal form, grows in a multiple of its Period: Infinite, if it is not finite, since it then exceeds every other curve.
+func Growth(f api.Curve, period int) int {
+	if !curve.Finite(f) {
+		return api.Infinite
+	}
+	return period / f.Period * f.Increment
+}
+
+// Plus returns the sum of two values.
+func Plus(a, b int) int {
+	if a == api.Infinite || b == api.Infinite {
+		return api.Infinite
+	}
+	return a + b
+}
+
 // Common returns the least common multiple of two positive numbers.
 func Common(a, b int) int {
 	divisor, rest := a, b

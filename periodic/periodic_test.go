@@ -81,6 +81,55 @@ func TestLimits(t *testing.T) {
 	}
 }
 
+// What has settled is a curve; what is still to be overtaken is not, in whichever tick of the period, and whether it takes one period more or very many.
+func TestSettled(t *testing.T) {
+	for _, f := range valid() {
+		want, _ := curve.Normal(f)
+		for _, start := range []int{400, 401, 1000} {
+			for _, times := range []int{1, 2, 10} {
+				h, e := Settled(start, times*want.Period, Growth(want, times*want.Period), Values(f))
+				if !curve.Same(h, want) || e != api.OK {
+					t.Errorf("%v, from %d on, %d periods: %v %d", f, start, times, h, e)
+				}
+			}
+		}
+	}
+	for _, x := range []struct {
+		period, growth int
+		value          func(t int) int
+		want           api.Errno
+	}{
+		{1, 1, func(t int) int { return min(2*t, 399+t) }, api.OK}, {1, 1, func(t int) int { return min(2*t, 400+t) }, api.ErrLimit}, {1, 1, func(t int) int { return min(2*t, 401+t) }, api.ErrLimit}, {1, 1, func(t int) int { return min(2*t, most+t) }, api.ErrLimit}, {1, 2, func(t int) int { return max(2*t, most+t) }, api.ErrLimit}, {1, 2, func(t int) int { return max(2*t, 300+t) }, api.OK},
+		{7, 1, func(t int) int { return min(t, 50+t/7) }, api.OK}, {7, 1, func(t int) int { return min(t, most+t/7) }, api.ErrLimit}, {7, 1, func(t int) int { return min(3*t, 1200+t/7) }, api.ErrLimit}, {2, inf, func(t int) int { return max(t, min(t/300, 1)*inf) }, api.OK}, {1, 0, func(t int) int { return inf }, api.OK},
+	} {
+		h, e := Settled(400, x.period, x.growth, x.value)
+		if e != x.want || e != api.OK && !curve.Same(h, api.Curve{}) {
+			t.Errorf("period %d, growth %d: %v %d, not %d", x.period, x.growth, h, e, x.want)
+		}
+	}
+}
+
+func TestGrowth(t *testing.T) {
+	for _, x := range []struct {
+		f            api.Curve
+		period, want int
+	}{
+		{c(1, 3, 0), 1, 3}, {c(1, 3, 0), 120, 360}, {c(2, 3, 0, 2), 2, 3}, {c(2, 3, 0, 2), 6, 9}, {c(1, 0, most), 7, 0}, {c(1, most, 0), 120, 120 * most}, {c(1, 0, inf), 1, inf}, {c(1, 0, 0, 5, inf), 60, inf},
+	} {
+		if got := Growth(x.f, x.period); got != x.want {
+			t.Errorf("%v in %d ticks: %d, not %d", x.f, x.period, got, x.want)
+		}
+	}
+}
+
+func TestPlus(t *testing.T) {
+	for _, x := range [][3]int{{0, 0, 0}, {3, 5, 8}, {most, most, 2 * most}, {inf, 0, inf}, {0, inf, inf}, {inf, most, inf}, {inf, inf, inf}, {inf - 1, 0, inf - 1}} {
+		if got := Plus(x[0], x[1]); got != x[2] {
+			t.Errorf("%d and %d: %d, not %d", x[0], x[1], got, x[2])
+		}
+	}
+}
+
 func TestCommon(t *testing.T) {
 	for a := 1; a <= 130; a++ {
 		for b := 1; b <= 130; b++ {
