@@ -40,6 +40,16 @@ func Curve(start, period int, value func(t int) int) (api.Curve, api.Errno) {
 	return f, api.OK
 }
 
+// FromZero returns the normal form of the curve that is 0 at the tick 0, and has the values that value gives at all others, as Curve does. It may be asked for with a start that is negative.
+func FromZero(start, period int, value func(t int) int) (api.Curve, api.Errno) {
+	return Curve(max(start, 1), period, func(t int) int {
+		if t == 0 {
+			return 0
+		}
+		return value(t)
+	})
+}
+
 // Settled returns the normal form of the curve with the values that value gives, as Curve does. In the long run the values grow by growth in each period, as soon as none of the curves that they are taken from overtakes another one any more. If one is still to be overtaken at start, which is at least MaxValues, all values up to there would have to be listed. As the other one comes nearer with each period, the first period behind start shows this.
 func Settled(start, period, growth int, value func(t int) int) (api.Curve, api.Errno) {
 	for t := start; t < start+period; t++ {

@@ -81,6 +81,30 @@ func TestLimits(t *testing.T) {
 	}
 }
 
+// The value at the tick 0 is not asked for, and the curve need not be periodic from there on.
+func TestFromZero(t *testing.T) {
+	for _, x := range []struct {
+		start, period int
+		value         func(t int) int
+		want          api.Curve
+		errno         api.Errno
+	}{
+		{0, 1, func(t int) int { return 5 }, c(1, 0, 0, 5), api.OK}, {1, 1, func(t int) int { return 5 }, c(1, 0, 0, 5), api.OK}, {-7, 1, func(t int) int { return 5 }, c(1, 0, 0, 5), api.OK}, {-1 << 20, 1, func(t int) int { return 5 * t }, c(1, 5, 0), api.OK}, {3, 4, func(t int) int { return 3 * t }, c(1, 3, 0), api.OK}, {9, 1, func(t int) int { return 0 }, c(1, 0, 0), api.OK},
+		{0, 2, func(t int) int { return 1 + t/2*3 }, c(2, 3, 0, 1, 4), api.OK}, {-3, 2, func(t int) int { return (t + 1) / 2 * 3 }, c(2, 3, 0, 3), api.OK}, {2, 1, func(t int) int { return min(t, 2) }, c(1, 0, 0, 1, 2), api.OK}, {1, 1, func(t int) int { return inf }, c(1, 0, 0, inf), api.OK},
+		{0, 1, func(t int) int { return most + 1 }, api.Curve{}, api.ErrLimit}, {0, 121, func(t int) int { return t / 121 }, api.Curve{}, api.ErrLimit}, {500, 1, func(t int) int { return max(1, t-450) }, api.Curve{}, api.ErrLimit},
+	} {
+		h, e := FromZero(x.start, x.period, func(t int) int {
+			if t < 1 {
+				return -1
+			}
+			return x.value(t)
+		})
+		if !curve.Same(h, x.want) || e != x.errno {
+			t.Errorf("start %d, period %d: %v %d, not %v %d", x.start, x.period, h, e, x.want, x.errno)
+		}
+	}
+}
+
 // What has settled is a curve; what is still to be overtaken is not, in whichever tick of the period, and whether it takes one period more or very many.
 func TestSettled(t *testing.T) {
 	for _, f := range valid() {
