@@ -76,6 +76,17 @@ func Plus(a, b int) int {
 	return a + b
 }
 
+// Difference returns what is left of the value a when b is taken away: never less than 0, and nothing if b is Infinite.
+func Difference(a, b int) int {
+	if b == api.Infinite {
+		return 0
+	}
+	if a == api.Infinite {
+		return api.Infinite
+	}
+	return max(0, a-b)
+}
+
 // Common returns the least common multiple of two positive numbers.
 func Common(a, b int) int {
 	divisor, rest := a, b

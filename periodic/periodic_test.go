@@ -154,6 +154,14 @@ func TestPlus(t *testing.T) {
 	}
 }
 
+func TestDifference(t *testing.T) {
+	for _, x := range [][3]int{{0, 0, 0}, {8, 5, 3}, {5, 5, 0}, {5, 8, 0}, {0, most, 0}, {2 * most, most, most}, {inf, 0, inf}, {inf, most, inf}, {inf, inf - 1, inf}, {0, inf, 0}, {most, inf, 0}, {inf, inf, 0}, {inf - 1, inf, 0}, {inf - 1, 0, inf - 1}} {
+		if got := Difference(x[0], x[1]); got != x[2] {
+			t.Errorf("%d and %d: %d, not %d", x[0], x[1], got, x[2])
+		}
+	}
+}
+
 func TestCommon(t *testing.T) {
 	for a := 1; a <= 130; a++ {
 		for b := 1; b <= 130; b++ {
